@@ -1,0 +1,19 @@
+package distance
+
+// waiting: ways to states that may not be done yet, as a heap, the cheapest one first.
+type waiting []way
+
+func (w waiting) Len() int { return len(w) }
+
+func (w waiting) Less(i, j int) bool { return w[i].cost < w[j].cost }
+
+func (w waiting) Swap(i, j int) { w[i], w[j] = w[j], w[i] }
+
+func (w *waiting) Push(x any) { *w = append(*w, x.(way)) }
+
+func (w *waiting) Pop() any {
+	last := len(*w) - 1
+	x := (*w)[last]
+	*w = (*w)[:last]
+	return x
+}
